@@ -2,6 +2,7 @@
 package courier
 
 import (
+	"courier/agent"
 	"courier/api"
 	"courier/frame"
 )
@@ -13,28 +14,34 @@ func Encode(f api.Frame) ([]byte, api.Errno) { return frame.Encode(f) }
 func Decode(b []byte) (api.Frame, api.Errno) { return frame.Decode(b) }
 
 // Agent keeps records until they are committed, and sends them.
-type Agent struct{}
+type Agent struct{ end *agent.Agent }
 
 // OpenAgent makes an agent on a disk that holds these bytes (P4).
-func OpenAgent(disk []byte) (*Agent, api.Errno) { return nil, api.OK }
+func OpenAgent(disk []byte) (*Agent, api.Errno) {
+	end, errno := agent.Open(disk)
+	if errno != api.OK {
+		return nil, errno
+	}
+	return &Agent{end}, api.OK
+}
 
 // Epoch tells which opening of its disk this is (P4).
-func (a *Agent) Epoch() int { return 0 }
+func (a *Agent) Epoch() int { return a.end.Epoch() }
 
 // Submit takes a record (P5).
-func (a *Agent) Submit(stream int, body string) api.Errno { return api.OK }
+func (a *Agent) Submit(stream int, body string) api.Errno { return a.end.Submit(stream, body) }
 
 // Spool tells a stream's records that are kept (P5).
-func (a *Agent) Spool(stream int) []string { return nil }
+func (a *Agent) Spool(stream int) []string { return a.end.Spool(stream) }
 
 // Tick tells which frames are sent now (P6).
-func (a *Agent) Tick() [][]byte { return nil }
+func (a *Agent) Tick() [][]byte { return a.end.Tick() }
 
 // Deliver takes a frame (P7).
-func (a *Agent) Deliver(frame []byte) api.Errno { return api.OK }
+func (a *Agent) Deliver(frame []byte) api.Errno { return a.end.Deliver(frame) }
 
 // Image tells what the disk would hold if it failed now (P10).
-func (a *Agent) Image(keep uint64) []byte { return nil }
+func (a *Agent) Image(keep uint64) []byte { return a.end.Image(keep) }
 
 // Arm has the disk fail at a write to come (P10).
 func (a *Agent) Arm(n int) {}

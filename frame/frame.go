@@ -1,21 +1,24 @@
 // Package frame: which frames there are, and their bytes.
 package frame
 
-import "courier/api"
+import (
+	"courier/api"
+	"courier/number"
+)
 
 // Where the parts of a frame stand among its bytes; the sum follows the body.
 const (
-	kindAt     = 0
-	epochAt    = 1
-	streamAt   = 5
-	seqAt      = 6
-	lengthAt   = 10
-	bodyAt     = 11
-	numberSize = 4
+	kindAt   = 0
+	epochAt  = 1
+	streamAt = 5
+	seqAt    = 6
+	lengthAt = 10
+	bodyAt   = 11
+	sumSize  = number.Size
 )
 
 const (
-	welcomeSize = api.Streams * numberSize
+	welcomeSize = api.Streams * number.Size
 	mostHeld    = 1<<api.Ahead - 1 // a bit for each record that a sink may hold
 )
 
@@ -24,14 +27,14 @@ func Encode(f api.Frame) ([]byte, api.Errno) {
 	if !isFrame(f) {
 		return nil, api.ErrFrame
 	}
-	b := make([]byte, 0, bodyAt+len(f.Body)+numberSize)
+	b := make([]byte, 0, bodyAt+len(f.Body)+sumSize)
 	b = append(b, byte(f.Kind))
-	b = appendNumber(b, uint32(f.Epoch))
+	b = number.Append(b, uint32(f.Epoch))
 	b = append(b, byte(f.Stream))
-	b = appendNumber(b, uint32(f.Seq))
+	b = number.Append(b, uint32(f.Seq))
 	b = append(b, byte(len(f.Body)))
 	b = append(b, f.Body...)
-	return appendNumber(b, sum(b)), api.OK
+	return number.Append(b, sum(b)), api.OK
 }
 
 // Decode makes a frame of bytes, ErrFrame if they are no frame's.
@@ -41,10 +44,10 @@ func Decode(b []byte) (api.Frame, api.Errno) {
 	}
 	f := api.Frame{
 		Kind:   int(b[kindAt]),
-		Epoch:  int(number(b[epochAt:])),
+		Epoch:  int(number.At(b[epochAt:])),
 		Stream: int(b[streamAt]),
-		Seq:    int(number(b[seqAt:])),
-		Body:   string(b[bodyAt : len(b)-numberSize]),
+		Seq:    int(number.At(b[seqAt:])),
+		Body:   string(b[bodyAt : len(b)-sumSize]),
 	}
 	if !isFrame(f) {
 		return api.Frame{}, api.ErrFrame
@@ -52,13 +55,33 @@ func Decode(b []byte) (api.Frame, api.Errno) {
 	return f, api.OK
 }
 
+// Committed tells the numbers that the body of a Welcome says, one for each stream.
+func Committed(welcome string) [api.Streams]int {
+	var numbers [api.Streams]int
+	for i := range numbers {
+		numbers[i] = int(number.At(welcome[i*number.Size:]))
+	}
+	return numbers
+}
+
+// Held tells the numbers of the records that an Ack says are held, if it says that a stream is committed up to seq.
+func Held(seq int, ack string) []int {
+	var numbers []int
+	for i := range api.Ahead {
+		if ack[0]>>i&1 == 1 {
+			numbers = append(numbers, seq+2+i)
+		}
+	}
+	return numbers
+}
+
 // isWhole tells if bytes are as many as they say, and their sum is right.
 func isWhole(b []byte) bool {
-	if len(b) < bodyAt+numberSize || len(b) != bodyAt+int(b[lengthAt])+numberSize {
+	if len(b) < bodyAt+sumSize || len(b) != bodyAt+int(b[lengthAt])+sumSize {
 		return false
 	}
-	end := len(b) - numberSize
-	return number(b[end:]) == sum(b[:end])
+	end := len(b) - sumSize
+	return number.At(b[end:]) == sum(b[:end])
 }
 
 // isFrame tells if a frame is one of those that the document names.
@@ -87,8 +110,8 @@ func isWelcomeBody(body string) bool {
 	if len(body) != welcomeSize {
 		return false
 	}
-	for at := 0; at < welcomeSize; at += numberSize {
-		if number(body[at:]) > api.MaxNumber {
+	for _, n := range Committed(body) {
+		if !isNumber(n) {
 			return false
 		}
 	}
@@ -96,16 +119,6 @@ func isWelcomeBody(body string) bool {
 }
 
 func isAckBody(body string) bool { return len(body) == 1 && body[0] <= mostHeld }
-
-// appendNumber appends four bytes, the lowest first.
-func appendNumber(b []byte, n uint32) []byte {
-	return append(b, byte(n), byte(n>>8), byte(n>>16), byte(n>>24))
-}
-
-// number reads what appendNumber wrote, at the beginning of at least four bytes.
-func number[B string | []byte](b B) uint32 {
-	return uint32(b[0]) | uint32(b[1])<<8 | uint32(b[2])<<16 | uint32(b[3])<<24
-}
 
 // sum leans on uint32 going round at 2^32.
 func sum(b []byte) uint32 {

@@ -1,0 +1,95 @@
+// Package store: numbers and records that are lasting. The numbers stand in two head sectors of which the newer one counts, each record in a sector of its own.
+package store
+
+import (
+	"courier/api"
+	"courier/disk"
+)
+
+const heads = 2
+
+// Store is one opening of a disk.
+type Store struct {
+	disk *disk.Disk
+	last stamp // of the last write
+	head int   // the head sector that counts
+}
+
+// Contents is what a disk has when it is opened: the records by their places.
+type Contents struct {
+	Numbers Numbers
+	Records []Record
+}
+
+// Open opens a disk, of two sectors or more, which holds these bytes; ErrDisk if they were never written so by a store.
+func Open(bytes []byte) (*Store, Contents, api.Errno) {
+	newest, at, ok := newestHead(bytes)
+	if !ok {
+		return nil, Contents{}, api.ErrDisk
+	}
+	records, ok := readRecords(bytes, newest.stamp.opening)
+	if !ok {
+		return nil, Contents{}, api.ErrDisk
+	}
+	// No stamp on the disk is of a later opening than the newest head's, so this number is above them all.
+	s := &Store{disk: disk.New(bytes), last: stamp{opening: newest.stamp.opening + 1}, head: at}
+	s.WriteNumbers(newest.numbers)
+	return s, Contents{newest.numbers, records}, api.OK
+}
+
+// newestHead tells the head that counts and its sector, false if there is none.
+func newestHead(bytes []byte) (head, int, bool) {
+	first, ok := readHead(sectorAt(bytes, 0))
+	second, okToo := readHead(sectorAt(bytes, 1))
+	switch {
+	case !ok || !okToo:
+		return head{}, 0, false
+	case second.stamp.isNewerThan(first.stamp):
+		return second, 1, true
+	case first.stamp.isNewerThan(second.stamp):
+		return first, 0, true
+	}
+	// Two writes with one stamp there are not, so this is a disk that was never opened.
+	return head{}, 0, first == head{} && second == head{}
+}
+
+// readRecords tells what stands behind the heads, false if it was never written by the openings up to the last.
+func readRecords(bytes []byte, last uint32) ([]Record, bool) {
+	var records []Record
+	for sector := heads; sector < len(bytes)/api.Sector; sector++ {
+		r, ok := readRecord(sectorAt(bytes, sector), last)
+		if !ok {
+			return nil, false
+		}
+		records = append(records, r)
+	}
+	return records, true
+}
+
+func sectorAt(bytes []byte, sector int) disk.Sector {
+	return disk.Sector(bytes[sector*api.Sector : (sector+1)*api.Sector])
+}
+
+// Opening tells how many times the disk was opened.
+func (s *Store) Opening() int { return int(s.last.opening) }
+
+// WriteNumbers makes numbers lasting in place of those that counted, all of them or none.
+func (s *Store) WriteNumbers(n Numbers) {
+	s.head = heads - 1 - s.head
+	s.last.count++
+	s.write(s.head, sealHead(head{s.last, n}))
+}
+
+// WriteRecord makes a record lasting at a place, in place of what stood there.
+func (s *Store) WriteRecord(place int, r Record) {
+	s.last.count++
+	s.write(heads+place, sealRecord(s.last, r))
+}
+
+func (s *Store) write(sector int, bytes disk.Sector) {
+	s.disk.Write(sector, bytes)
+	s.disk.Sync()
+}
+
+// Image tells what the disk would hold if it failed now.
+func (s *Store) Image(keep uint64) []byte { return s.disk.Image(keep) }
