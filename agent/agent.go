@@ -5,6 +5,7 @@ import (
 	"strings"
 
 	"courier/api"
+	"courier/frame"
 	"courier/shelf"
 	"courier/store"
 )
@@ -60,7 +61,10 @@ func Open(disk []byte) (*Agent, api.Errno) {
 	return a, api.OK
 }
 
-// load keeps the records of a disk that are not gone; false if no agent has left them so: two of one number, or one left out.
+// mostRecords of a stream are all that the document promises anything of; beyond them numbers would no longer fit into frames.
+const mostRecords = 1 << 30
+
+// load keeps the records of a disk that are not gone; false if no agent has left them so: two of one number, one left out, or too many.
 func (a *Agent) load(records []store.Record) bool {
 	for place, r := range records {
 		if r.Seq <= a.gone[r.Stream] {
@@ -68,13 +72,13 @@ func (a *Agent) load(records []store.Record) bool {
 			continue
 		}
 		kept := &a.streams[r.Stream].kept
-		if _, twice := kept.Get(r.Seq); twice {
+		if kept.Has(r.Seq) {
 			return false
 		}
 		kept.Put(r.Seq, record{r.Body, place})
 	}
 	for i := range a.streams {
-		if a.last(i) != a.gone[i]+a.streams[i].kept.Len() {
+		if last := a.last(i); last > mostRecords || last != a.gone[i]+a.streams[i].kept.Len() {
 			return false
 		}
 	}
@@ -93,7 +97,7 @@ func (a *Agent) Epoch() int { return a.store.Opening() }
 // Submit takes a record (P5).
 func (a *Agent) Submit(stream int, body string) api.Errno {
 	switch {
-	case !isStream(stream):
+	case !frame.IsStream(stream):
 		return api.ErrStream
 	case len(body) > api.MaxBody:
 		return api.ErrBody
@@ -110,7 +114,7 @@ func (a *Agent) Submit(stream int, body string) api.Errno {
 
 // Spool tells a stream's records that are kept (P5).
 func (a *Agent) Spool(stream int) []string {
-	if !isStream(stream) {
+	if !frame.IsStream(stream) {
 		return nil
 	}
 	var bodies []string
@@ -119,8 +123,6 @@ func (a *Agent) Spool(stream int) []string {
 	}
 	return bodies
 }
-
-func isStream(stream int) bool { return stream >= 0 && stream < api.Streams }
 
 // Image tells what the disk would hold if it failed now (P10).
 func (a *Agent) Image(keep uint64) []byte { return a.store.Image(keep) }

@@ -51,6 +51,11 @@ func TestP4DisksNoAgentHasLeft(t *testing.T) {
 	wantRefused(t, "a record twice", forged(t, store.Numbers{}, store.Record{Seq: 1}, store.Record{Seq: 1}))
 	wantRefused(t, "a first record left out", forged(t, store.Numbers{}, store.Record{Seq: 2}))
 	wantRefused(t, "a record left out", forged(t, store.Numbers{1, 0, 0}, store.Record{Seq: 2}, store.Record{Seq: 4}))
+	const most = 1 << 30
+	wantRefused(t, "a record of a number above 2^30", forged(t, store.Numbers{most, 0, 0}, store.Record{Seq: most + 1}))
+	wantRefused(t, "more than 2^30 records that are gone", forged(t, store.Numbers{0, 0, most + 1}))
+	wantRefused(t, "as many records as numbers go", forged(t, store.Numbers{0, api.MaxNumber, 0}))
+	wantRefused(t, "a record of the greatest number", forged(t, store.Numbers{0, 0, api.MaxNumber - 1}, store.Record{Stream: 2, Seq: api.MaxNumber}))
 	wantRefused(t, "a record of another stream left out", forged(t, store.Numbers{}, store.Record{Seq: 1}, store.Record{Stream: 2, Seq: 2}))
 }
 

@@ -13,7 +13,7 @@ func (a *Agent) Tick() [][]byte {
 		return nil
 	}
 	if !a.welcome {
-		return [][]byte{bytesOf(api.Frame{Kind: api.Hello, Epoch: a.Epoch()})}
+		return [][]byte{frame.Bytes(api.Frame{Kind: api.Hello, Epoch: a.Epoch()})}
 	}
 	var frames [][]byte
 	for stream := range a.streams {
@@ -29,24 +29,18 @@ func (a *Agent) send(stream int) [][]byte {
 	for seq, r := range s.kept.First(api.Window) {
 		if s.isDue(seq, a.tick) {
 			s.sent.Put(seq, a.tick)
-			frames = append(frames, bytesOf(api.Frame{Kind: api.Data, Epoch: a.Epoch(), Stream: stream, Seq: seq, Body: r.body}))
+			frames = append(frames, frame.Bytes(api.Frame{Kind: api.Data, Epoch: a.Epoch(), Stream: stream, Seq: seq, Body: r.body}))
 		}
 	}
 	return frames
 }
 
 func (s *stream) isDue(seq, tick int) bool {
-	if _, held := s.held.Get(seq); held {
+	if s.held.Has(seq) {
 		return false
 	}
 	sent, ok := s.sent.Get(seq)
 	return !ok || tick-sent >= api.Patience
-}
-
-// bytesOf leans on an agent's numbers being within those of frames: the store opens no disk that is near their end.
-func bytesOf(f api.Frame) []byte {
-	b, _ := frame.Encode(f)
-	return b
 }
 
 // Deliver takes a frame (P7).

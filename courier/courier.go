@@ -5,6 +5,7 @@ import (
 	"courier/agent"
 	"courier/api"
 	"courier/frame"
+	"courier/sink"
 )
 
 // Encode makes bytes of a frame (P3).
@@ -47,22 +48,28 @@ func (a *Agent) Image(keep uint64) []byte { return a.end.Image(keep) }
 func (a *Agent) Arm(n int) {}
 
 // Sink commits records.
-type Sink struct{}
+type Sink struct{ end *sink.Sink }
 
 // OpenSink makes a sink on a disk that holds these bytes (P4).
-func OpenSink(disk []byte) (*Sink, api.Errno) { return nil, api.OK }
+func OpenSink(disk []byte) (*Sink, api.Errno) {
+	end, errno := sink.Open(disk)
+	if errno != api.OK {
+		return nil, errno
+	}
+	return &Sink{end}, api.OK
+}
 
 // Epoch tells the agent's opening that the sink has heard of last (P8).
-func (s *Sink) Epoch() int { return 0 }
+func (s *Sink) Epoch() int { return s.end.Epoch() }
 
 // Deliver takes a frame; what is answered (P8).
-func (s *Sink) Deliver(frame []byte) ([][]byte, api.Errno) { return nil, api.OK }
+func (s *Sink) Deliver(frame []byte) ([][]byte, api.Errno) { return s.end.Deliver(frame) }
 
 // Log tells a stream's records that are committed (P9).
-func (s *Sink) Log(stream int) []string { return nil }
+func (s *Sink) Log(stream int) []string { return s.end.Log(stream) }
 
 // Image tells what the disk would hold if it failed now (P10).
-func (s *Sink) Image(keep uint64) []byte { return nil }
+func (s *Sink) Image(keep uint64) []byte { return s.end.Image(keep) }
 
 // Arm has the disk fail at a write to come (P10).
 func (s *Sink) Arm(n int) {}

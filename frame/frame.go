@@ -27,6 +27,11 @@ func Encode(f api.Frame) ([]byte, api.Errno) {
 	if !isFrame(f) {
 		return nil, api.ErrFrame
 	}
+	return Bytes(f), api.OK
+}
+
+// Bytes makes bytes of what the caller knows to be a frame.
+func Bytes(f api.Frame) []byte {
 	b := make([]byte, 0, bodyAt+len(f.Body)+sumSize)
 	b = append(b, byte(f.Kind))
 	b = number.Append(b, uint32(f.Epoch))
@@ -34,7 +39,7 @@ func Encode(f api.Frame) ([]byte, api.Errno) {
 	b = number.Append(b, uint32(f.Seq))
 	b = append(b, byte(len(f.Body)))
 	b = append(b, f.Body...)
-	return number.Append(b, sum(b)), api.OK
+	return number.Append(b, sum(b))
 }
 
 // Decode makes a frame of bytes, ErrFrame if they are no frame's.
@@ -55,6 +60,15 @@ func Decode(b []byte) (api.Frame, api.Errno) {
 	return f, api.OK
 }
 
+// WelcomeBody makes the body of a Welcome that says these numbers, one for each stream.
+func WelcomeBody(committed [api.Streams]int) string {
+	var b []byte
+	for _, n := range committed {
+		b = number.Append(b, uint32(n))
+	}
+	return string(b)
+}
+
 // Committed tells the numbers that the body of a Welcome says, one for each stream.
 func Committed(welcome string) [api.Streams]int {
 	var numbers [api.Streams]int
@@ -64,16 +78,30 @@ func Committed(welcome string) [api.Streams]int {
 	return numbers
 }
 
+// AckBody makes the body of an Ack that says which records are held, if it says that a stream is committed up to seq.
+func AckBody(seq int, isHeld func(int) bool) string {
+	var bits byte
+	for i := range api.Ahead {
+		if isHeld(firstHeld(seq) + i) {
+			bits |= 1 << i
+		}
+	}
+	return string([]byte{bits})
+}
+
 // Held tells the numbers of the records that an Ack says are held, if it says that a stream is committed up to seq.
 func Held(seq int, ack string) []int {
 	var numbers []int
 	for i := range api.Ahead {
 		if ack[0]>>i&1 == 1 {
-			numbers = append(numbers, seq+2+i)
+			numbers = append(numbers, firstHeld(seq)+i)
 		}
 	}
 	return numbers
 }
+
+// firstHeld tells for which record the first bit stands: the one behind seq is that which a sink waits for.
+func firstHeld(seq int) int { return seq + 2 }
 
 // isWhole tells if bytes are as many as they say, and their sum is right.
 func isWhole(b []byte) bool {
@@ -95,14 +123,15 @@ func isFrame(f api.Frame) bool {
 	case api.Welcome:
 		return f.Stream == 0 && f.Seq == 0 && isWelcomeBody(f.Body)
 	case api.Data:
-		return isStream(f.Stream) && f.Seq != 0 && isNumber(f.Seq) && len(f.Body) <= api.MaxBody
+		return IsStream(f.Stream) && f.Seq != 0 && isNumber(f.Seq) && len(f.Body) <= api.MaxBody
 	case api.Ack:
-		return isStream(f.Stream) && isNumber(f.Seq) && isAckBody(f.Body)
+		return IsStream(f.Stream) && isNumber(f.Seq) && isAckBody(f.Body)
 	}
 	return false
 }
 
-func isStream(n int) bool { return n >= 0 && n < api.Streams }
+// IsStream tells if there is such a stream.
+func IsStream(n int) bool { return n >= 0 && n < api.Streams }
 
 func isNumber(n int) bool { return n >= 0 && n <= api.MaxNumber }
 

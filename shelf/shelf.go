@@ -34,6 +34,12 @@ func (s *Shelf[N, T]) Get(n N) (T, bool) {
 	return thing, found
 }
 
+// Has tells if there is a thing of a number.
+func (s *Shelf[N, T]) Has(n N) bool {
+	_, found := s.things[n]
+	return found
+}
+
 // Len tells how many things there are.
 func (s *Shelf[N, T]) Len() int { return len(s.numbers) }
 
@@ -58,6 +64,17 @@ func (s *Shelf[N, T]) First(most int) iter.Seq2[N, T] {
 
 // All goes through all things, in order. The shelf stays as it is meanwhile.
 func (s *Shelf[N, T]) All() iter.Seq2[N, T] { return s.First(s.Len()) }
+
+// Take takes away the thing of a number, if there is one, and tells it.
+func (s *Shelf[N, T]) Take(n N) (T, bool) {
+	thing, found := s.things[n]
+	if found {
+		at, _ := slices.BinarySearch(s.numbers, n)
+		s.numbers = slices.Delete(s.numbers, at, at+1)
+		delete(s.things, n)
+	}
+	return thing, found
+}
 
 // TakeUpTo takes away the things up to a number, and tells them in order.
 func (s *Shelf[N, T]) TakeUpTo(n N) []T {

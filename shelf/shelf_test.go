@@ -27,6 +27,9 @@ func TestEmpty(t *testing.T) {
 	if n, found := s.Last(); n != 0 || found {
 		t.Errorf("the last of an empty shelf: %d, %v", n, found)
 	}
+	if thing, found := s.Take(0); thing != "" || found || s.Has(0) {
+		t.Errorf("taken from an empty shelf: %q, %v", thing, found)
+	}
 	if taken := s.TakeUpTo(math.MaxInt); len(taken) != 0 {
 		t.Errorf("taken from an empty shelf: %q", taken)
 	}
@@ -97,10 +100,19 @@ func TestLikeAMap(t *testing.T) {
 	m := map[int]int{}
 	for range 5000 {
 		n, thing := r.Intn(60)-20, r.Int()
+		was, there := m[n]
+		if has := s.Has(n); has != there {
+			t.Fatalf("Has(%d) = %v", n, has)
+		}
 		switch k := r.Intn(20); {
-		case k < 14:
+		case k < 10:
 			s.Put(n, thing)
 			m[n] = thing
+		case k < 14:
+			if got, found := s.Take(n); got != was || found != there {
+				t.Fatalf("Take(%d) = %d, %v, want %d, %v", n, got, found, was, there)
+			}
+			delete(m, n)
 		case k < 19:
 			want := []int{}
 			for _, key := range slices.Sorted(maps.Keys(m)) {

@@ -18,11 +18,8 @@ const (
 	insideEnd = api.Sector - stampSize
 )
 
-// mostOpenings and mostRecords are all that the document promises anything of; beyond them numbers would no longer fit into frames.
-const (
-	mostOpenings = 1 << 30
-	mostRecords  = 1 << 30
-)
+// mostOpenings are all that the document promises anything of; beyond them an opening would no longer fit into a frame.
+const mostOpenings = 1 << 30
 
 func (s stamp) bytes() []byte {
 	b := number.Append(nil, s.opening)
@@ -57,7 +54,7 @@ func stampOf(b disk.Sector) stamp {
 // isStamp tells if a write may have had this stamp.
 func isStamp(s stamp) bool { return s.opening >= 1 && s.opening <= mostOpenings }
 
-// Numbers is what a head says beside its stamp.
+// Numbers is what a head says beside its stamp; each is one that fits into a frame.
 type Numbers [api.Streams]int
 
 // head is a head sector; that of a sector which was never written is the zero value.
@@ -82,7 +79,7 @@ func readHead(b disk.Sector) (head, bool) {
 	h := head{stamp: stampOf(b)}
 	for i := range h.numbers {
 		n := number.At(b[stampSize+i*number.Size:])
-		if n > mostRecords {
+		if n > api.MaxNumber {
 			return head{}, false
 		}
 		h.numbers[i] = int(n)
@@ -115,7 +112,7 @@ func readRecord(b disk.Sector, last uint32) (Record, bool) {
 		return Record{}, true
 	}
 	length, seq, s := int(b[lengthAt]), number.At(b[seqAt:]), stampOf(b)
-	if length > api.MaxBody || b[streamAt] >= api.Streams || seq < 1 || seq > mostRecords {
+	if length > api.MaxBody || b[streamAt] >= api.Streams || seq < 1 || seq > api.MaxNumber {
 		return Record{}, false
 	}
 	r := Record{Stream: int(b[streamAt]), Seq: int(seq), Body: string(b[bodyAt : bodyAt+length])}

@@ -51,18 +51,18 @@ func wantContents(t *testing.T, bytes []byte, opening int, n Numbers, records ..
 
 func TestWhatIsWrittenIsLasting(t *testing.T) {
 	s := wantContents(t, noughts(), 1, Numbers{}, make([]Record, 4)...)
-	a, b := Record{2, 7, strings.Repeat("\xff", 20)}, Record{0, mostRecords, ""}
+	a, b := Record{2, 7, strings.Repeat("\xff", 20)}, Record{0, api.MaxNumber, ""}
 	s.WriteRecord(3, a)
 	wantContents(t, s.Image(0), 2, Numbers{}, Record{}, Record{}, Record{}, a)
 	for n := range 5 {
-		numbers := Numbers{n, mostRecords, 0}
+		numbers := Numbers{n, api.MaxNumber, 0}
 		s.WriteNumbers(numbers)
 		wantContents(t, s.Image(0), 2, numbers, Record{}, Record{}, Record{}, a)
 	}
 	s.WriteRecord(3, b)
 	s.WriteRecord(0, a)
-	s = wantContents(t, s.Image(0), 2, Numbers{4, mostRecords, 0}, a, Record{}, Record{}, b)
-	s = wantContents(t, s.Image(0), 3, Numbers{4, mostRecords, 0}, a, Record{}, Record{}, b)
+	s = wantContents(t, s.Image(0), 2, Numbers{4, api.MaxNumber, 0}, a, Record{}, Record{}, b)
+	s = wantContents(t, s.Image(0), 3, Numbers{4, api.MaxNumber, 0}, a, Record{}, Record{}, b)
 	s.WriteNumbers(Numbers{5})
 	wantContents(t, s.Image(0), 4, Numbers{5}, a, Record{}, Record{}, b)
 }
@@ -163,7 +163,6 @@ func TestHeadsThatWereNeverWritten(t *testing.T) {
 		"of opening 0":       {stamp{0, 1}, Numbers{}},
 		"of opening 2^30+1":  {stamp{mostOpenings + 1, 1}, Numbers{}},
 		"of opening 2^32-1":  {stamp{math.MaxUint32, 1}, Numbers{}},
-		"with number 2^30+1": {stamp{1, 1}, Numbers{0, 0, mostRecords + 1}},
 		"with number 2^31":   {stamp{1, 1}, Numbers{1 << 31, 0, 0}},
 		"with number 2^32-1": {stamp{1, 1}, Numbers{0, math.MaxUint32, 0}},
 	} {
@@ -184,7 +183,7 @@ func TestRecordsThatWereNeverWritten(t *testing.T) {
 		"of stream 3":        sealRecord(stamp{1, 2}, Record{3, 1, "a"}),
 		"of stream 255":      sealRecord(stamp{1, 2}, Record{255, 1, "a"}),
 		"of number 0":        sealRecord(stamp{1, 2}, Record{1, 0, "a"}),
-		"of number 2^30+1":   sealRecord(stamp{1, 2}, Record{1, mostRecords + 1, "a"}),
+		"of number 2^31":     sealRecord(stamp{1, 2}, Record{1, api.MaxNumber + 1, "a"}),
 		"of number 2^32-1":   sealRecord(stamp{1, 2}, Record{1, math.MaxUint32, "a"}),
 		"of 21 bytes":        sealRecord(stamp{1, 2}, Record{1, 1, strings.Repeat("x", 21)}),
 		"of 255 bytes":       sealRecord(stamp{1, 2}, Record{1, 1, strings.Repeat("x", 255)}),
