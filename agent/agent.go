@@ -37,7 +37,7 @@ type record struct {
 // rule says what is done with a frame of a kind; a kind without a rule changes nothing.
 type rule struct {
 	kind int
-	obey func(api.Frame)
+	obey func(api.Frame) api.Errno
 }
 
 // Open makes an agent on a disk that holds these bytes (P4).
@@ -97,6 +97,8 @@ func (a *Agent) Epoch() int { return a.store.Opening() }
 // Submit takes a record (P5).
 func (a *Agent) Submit(stream int, body string) api.Errno {
 	switch {
+	case a.store.IsDead():
+		return api.ErrDead
 	case !frame.IsStream(stream):
 		return api.ErrStream
 	case len(body) > api.MaxBody:
@@ -105,7 +107,9 @@ func (a *Agent) Submit(stream int, body string) api.Errno {
 		return api.ErrFull
 	}
 	seq, place := a.last(stream)+1, a.free[len(a.free)-1]
-	a.store.WriteRecord(place, store.Record{Stream: stream, Seq: seq, Body: body})
+	if errno := a.store.WriteRecord(place, store.Record{Stream: stream, Seq: seq, Body: body}); errno != api.OK {
+		return errno
+	}
 	a.free = a.free[:len(a.free)-1]
 	// A copy, for the body may be a piece of a much longer text.
 	a.streams[stream].kept.Put(seq, record{strings.Clone(body), place})
@@ -114,7 +118,7 @@ func (a *Agent) Submit(stream int, body string) api.Errno {
 
 // Spool tells a stream's records that are kept (P5).
 func (a *Agent) Spool(stream int) []string {
-	if !frame.IsStream(stream) {
+	if !frame.IsStream(stream) || a.store.IsDead() {
 		return nil
 	}
 	var bodies []string
@@ -123,6 +127,9 @@ func (a *Agent) Spool(stream int) []string {
 	}
 	return bodies
 }
+
+// Arm has the disk fail at a write to come, or not any more (P10).
+func (a *Agent) Arm(n int) { a.store.Arm(n) }
 
 // Image tells what the disk would hold if it failed now (P10).
 func (a *Agent) Image(keep uint64) []byte { return a.store.Image(keep) }

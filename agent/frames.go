@@ -9,7 +9,7 @@ import (
 // Tick tells which frames are sent now (P6).
 func (a *Agent) Tick() [][]byte {
 	a.tick++
-	if a.fenced {
+	if a.fenced || a.store.IsDead() {
 		return nil
 	}
 	if !a.welcome {
@@ -45,67 +45,79 @@ func (s *stream) isDue(seq, tick int) bool {
 
 // Deliver takes a frame (P7).
 func (a *Agent) Deliver(bytes []byte) api.Errno {
+	if a.store.IsDead() {
+		return api.ErrDead
+	}
 	f, errno := frame.Decode(bytes)
 	if errno != api.OK {
 		return errno
 	}
 	for _, r := range a.rules {
 		if r.kind == f.Kind {
-			r.obey(f)
+			return r.obey(f)
 		}
 	}
 	return api.OK
 }
 
-func (a *Agent) obeyReset(f api.Frame) {
+func (a *Agent) obeyReset(f api.Frame) api.Errno {
 	switch {
 	case f.Epoch > a.Epoch():
 		a.fenced = true
 	case f.Epoch == a.Epoch():
 		a.welcome = false
 	}
+	return api.OK
 }
 
-func (a *Agent) obeyWelcome(f api.Frame) {
+func (a *Agent) obeyWelcome(f api.Frame) api.Errno {
 	if f.Epoch != a.Epoch() {
-		return
+		return api.OK
 	}
 	gone := a.gone
 	for i, n := range frame.Committed(f.Body) {
 		gone[i] = max(gone[i], min(n, a.last(i)))
 	}
-	a.letGo(gone)
+	if errno := a.letGo(gone); errno != api.OK {
+		return errno
+	}
 	for i := range a.streams {
 		a.streams[i].sent.Clear()
 		a.streams[i].held.Clear()
 	}
 	a.welcome = true
+	return api.OK
 }
 
-func (a *Agent) obeyAck(f api.Frame) {
+func (a *Agent) obeyAck(f api.Frame) api.Errno {
 	if f.Epoch != a.Epoch() || !a.welcome {
-		return
+		return api.OK
 	}
 	seq := min(f.Seq, a.last(f.Stream))
 	if seq < a.gone[f.Stream] {
-		return // it came late
+		return api.OK // it came late
 	}
 	gone := a.gone
 	gone[f.Stream] = seq
-	a.letGo(gone)
+	if errno := a.letGo(gone); errno != api.OK {
+		return errno
+	}
 	held := &a.streams[f.Stream].held
 	held.Clear()
 	for _, n := range frame.Held(seq, f.Body) {
 		held.Put(n, struct{}{})
 	}
+	return api.OK
 }
 
 // letGo no longer keeps the records up to these numbers. One write says it of all streams, so it is lasting of all or of none.
-func (a *Agent) letGo(gone store.Numbers) {
+func (a *Agent) letGo(gone store.Numbers) api.Errno {
 	if gone == a.gone {
-		return
+		return api.OK
 	}
-	a.store.WriteNumbers(gone)
+	if errno := a.store.WriteNumbers(gone); errno != api.OK {
+		return errno
+	}
 	a.gone = gone
 	for i := range a.streams {
 		for _, r := range a.streams[i].kept.TakeUpTo(gone[i]) {
@@ -113,4 +125,5 @@ func (a *Agent) letGo(gone store.Numbers) {
 		}
 		a.streams[i].sent.TakeUpTo(gone[i])
 	}
+	return api.OK
 }

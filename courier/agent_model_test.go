@@ -2,6 +2,7 @@ package courier_test
 
 import (
 	"bytes"
+	"fmt"
 	"math/rand"
 	"slices"
 	"testing"
@@ -111,6 +112,12 @@ func (m *model) reopened() *model {
 type run struct {
 	agent *courier.Agent
 	model *model
+	armed int // at most so many changes can be made until the disk fails; 0: it doesn't
+}
+
+func newRun(t *testing.T) *run {
+	t.Helper()
+	return &run{agent: newAgent(t), model: newModel(1)}
 }
 
 func (c *run) check(t *testing.T) {
@@ -126,6 +133,57 @@ func (c *run) check(t *testing.T) {
 	if !bytes.Equal(c.agent.Image(0), c.agent.Image(^uint64(0))) {
 		t.Fatal("a call has left something that isn't lasting")
 	}
+}
+
+// isAsModel tells if the agent keeps what a model keeps.
+func (c *run) isAsModel(m *model) bool {
+	for stream := range api.Streams {
+		if !slices.Equal(c.agent.Spool(stream), m.spool(stream)) {
+			return false
+		}
+	}
+	return true
+}
+
+// compare has both do one thing that may write; in the call in which the disk fails it is done wholly or not at all.
+func (c *run) compare(t *testing.T, r *rand.Rand, what string, real, modelled func() api.Errno) {
+	t.Helper()
+	var before *model
+	if c.armed > 0 {
+		before = c.model.reopened()
+	}
+	got, want := real(), modelled()
+	if c.armed == 0 || got != api.ErrCrash {
+		if got != want {
+			t.Fatalf("%s = %d, want %d", what, got, want)
+		}
+		if c.armed > 0 && !c.isAsModel(before) {
+			c.armed--
+			if c.armed == 0 {
+				t.Fatalf("P10: %s: the disk should have failed by now", what)
+			}
+		}
+		return
+	}
+	wantDeadAgent(t, c.agent, c.model.epoch)
+	c.agent, c.armed = openAgent(t, c.agent.Image(r.Uint64()), before.epoch), 0
+	if c.model = c.model.reopened(); !c.isAsModel(c.model) {
+		c.model = before
+	}
+}
+
+func (c *run) deliver(t *testing.T, r *rand.Rand, f api.Frame, numbers ...int) {
+	t.Helper()
+	b := bytesOfFrame(f)
+	if f.Kind == api.Welcome {
+		b = welcomeOf(f.Epoch, numbers...)
+	}
+	c.compare(t, r, fmt.Sprintf("P7: Deliver(%v)", b), func() api.Errno {
+		return c.agent.Deliver(b)
+	}, func() api.Errno {
+		c.model.deliver(f, numbers)
+		return api.OK
+	})
 }
 
 // step does one thing with both.
@@ -145,28 +203,28 @@ func (c *run) step(t *testing.T, r *rand.Rand) {
 		if k < 2 {
 			stream, body = r.Intn(9)-3, (text20 + text20)[:r.Intn(25)]
 		}
-		if got, want := c.agent.Submit(stream, body), m.submit(stream, body); got != want {
-			t.Fatalf("P5: Submit(%d, %q) = %d, want %d", stream, body, got, want)
-		}
+		c.compare(t, r, fmt.Sprintf("P5: Submit(%d, %q)", stream, body), func() api.Errno {
+			return c.agent.Submit(stream, body)
+		}, func() api.Errno {
+			return m.submit(stream, body)
+		})
 	case k < 65:
 		if got, want := c.agent.Tick(), m.ticked(); !slices.EqualFunc(got, want, bytes.Equal) {
 			t.Fatalf("P6: Tick() = %v, want %v", got, want)
 		}
 	case k < 85:
 		stream := r.Intn(3)
-		f := api.Frame{Kind: api.Ack, Epoch: epoch, Stream: stream, Seq: near(stream), Body: string([]byte{byte(r.Intn(8))})}
-		deliver(t, c.agent, bytesOfFrame(f))
-		m.deliver(f, nil)
-	case k < 91:
-		numbers := []int{near(0), near(1), near(2)}
-		deliver(t, c.agent, welcomeOf(epoch, numbers...))
-		m.deliver(api.Frame{Kind: api.Welcome, Epoch: epoch}, numbers)
-	case k < 93:
-		f := api.Frame{Kind: api.Reset, Epoch: min(epoch, m.epoch+r.Intn(40)/39)}
-		deliver(t, c.agent, bytesOfFrame(f))
-		m.deliver(f, nil)
-	case k < 95:
+		c.deliver(t, r, api.Frame{Kind: api.Ack, Epoch: epoch, Stream: stream, Seq: near(stream), Body: string([]byte{byte(r.Intn(8))})})
+	case k < 90:
+		c.deliver(t, r, api.Frame{Kind: api.Welcome, Epoch: epoch}, near(0), near(1), near(2))
+	case k < 92:
+		c.deliver(t, r, api.Frame{Kind: api.Reset, Epoch: min(epoch, m.epoch+r.Intn(40)/39)})
+	case k < 94:
 		deliver(t, c.agent, dataOf(epoch, 1, near(1)+1, "x"), helloOf(epoch))
+	case k < 95:
+		n := r.Intn(7) - 1
+		c.agent.Arm(n)
+		c.armed = max(0, n)
 	case k < 97:
 		b := ackOf(epoch, 1, near(1), 0)
 		b[r.Intn(len(b))] ^= 1 << r.Intn(8)
@@ -174,39 +232,48 @@ func (c *run) step(t *testing.T, r *rand.Rand) {
 			t.Fatalf("P7: Deliver(%v) = %d, want ErrFrame", b, e)
 		}
 	case k < 99:
-		c.model = m.reopened()
-		c.agent = openAgent(t, c.agent.Image(r.Uint64()), c.model.epoch)
+		c.reopen(t, r)
 	}
+	c.check(t)
+}
+
+// reopen opens the agent's disk again, as if it failed now.
+func (c *run) reopen(t *testing.T, r *rand.Rand) {
+	t.Helper()
+	c.model = c.model.reopened()
+	c.agent, c.armed = openAgent(t, c.agent.Image(r.Uint64()), c.model.epoch), 0
 	c.check(t)
 }
 
 func TestAgentIsAsItsModel(t *testing.T) {
 	for seed := range int64(150) {
 		r := rand.New(rand.NewSource(seed))
-		c := &run{newAgent(t), newModel(1)}
+		c := newRun(t)
 		for range 400 {
 			c.step(t, r)
 		}
 	}
 }
 
-// learn makes the model of an agent of which nothing is known; a record of each stream is the first that it sends of it.
-func learn(t *testing.T, a *courier.Agent) *run {
+// learn makes the model of an agent of which nothing is known but the first numbers.
+func learn(t *testing.T, a *courier.Agent, first [api.Streams]int) *run {
 	t.Helper()
-	c := &run{a, newModel(a.Epoch())}
-	if a.Epoch() < 1 {
-		t.Fatalf("P4: Epoch() = %d", a.Epoch())
-	}
-	total := 0
-	for stream := range api.Streams {
-		total += len(a.Spool(stream))
-	}
-	if total > api.Spool {
-		t.Fatalf("P4: an agent with %d records", total)
+	c := &run{agent: a, model: newModel(a.Epoch())}
+	for stream, n := range first {
+		c.model.gone[stream] = n - 1
+		c.model.taken[stream] = append(make([]string, n-1), a.Spool(stream)...)
 	}
 	deliver(t, a, welcomeOf(a.Epoch(), 0, 0, 0))
 	c.model.welcome = true
-	first := [api.Streams]int{}
+	c.check(t)
+	return c
+}
+
+// firstNumbers tells of each stream the number of the first record that is kept, or of the next one.
+func firstNumbers(t *testing.T, a *courier.Agent) [api.Streams]int {
+	t.Helper()
+	var first [api.Streams]int
+	deliver(t, a, welcomeOf(a.Epoch(), 0, 0, 0))
 	for _, b := range a.Tick() {
 		f, _ := courier.Decode(b)
 		if f.Kind != api.Data {
@@ -225,15 +292,8 @@ func learn(t *testing.T, a *courier.Agent) *run {
 			// Its numbers are asked by a record of it, for which there must be room.
 			first[stream] = numberOfNext(t, a, stream)
 		}
-		if first[stream] > 1<<20 {
-			return nil // too many for a model that keeps them all
-		}
-		c.model.gone[stream] = first[stream] - 1
-		c.model.taken[stream] = append(make([]string, first[stream]-1), kept...)
 	}
-	deliver(t, a, welcomeOf(a.Epoch(), 0, 0, 0))
-	c.check(t)
-	return c
+	return first
 }
 
 // numberOfNext tells the number of the next record of a stream of which none is kept, from an end opened on the agent's disk.
@@ -266,22 +326,45 @@ func checkAnyDisk(t *testing.T, disk []byte, seed int64) bool {
 		}
 		return false
 	}
-	if a.Epoch() > 1<<30-100 {
-		return true // of a disk that is opened still more often nothing is promised
+	if total := len(a.Spool(0)) + len(a.Spool(1)) + len(a.Spool(2)); total > api.Spool || a.Epoch() < 1 {
+		t.Fatalf("P4: an agent of Epoch %d with %d records", a.Epoch(), total)
 	}
-	if c := learn(t, a); c != nil {
-		r := rand.New(rand.NewSource(seed))
+	const most = 1<<30 - 100 // of a disk that is opened still more often, or has more records, nothing is promised
+	if a.Epoch() > most {
+		return true
+	}
+	switch first := firstNumbers(t, a); {
+	case slices.Max(first[:]) <= 1<<16:
+		c, r := learn(t, a, first), rand.New(rand.NewSource(seed))
+		c.reopen(t, r)
 		for range 60 {
 			c.step(t, r)
 		}
+		c.reopen(t, r)
+	case slices.Max(first[:]) <= most:
+		wantKept(t, a) // a model would have to keep too many
 	}
 	return true
+}
+
+// wantKept asks if an agent takes a record as long as it has room, and has that and the others still when it is opened again.
+func wantKept(t *testing.T, a *courier.Agent) {
+	t.Helper()
+	want := spoolsOf(a)
+	full := len(want[0])+len(want[1])+len(want[2]) == api.Spool
+	if e := a.Submit(1, "new"); (e == api.ErrFull) != full || !full && e != api.OK {
+		t.Fatalf("P5: Submit = %d", e)
+	}
+	if !full {
+		want[1] = append(want[1], "new")
+	}
+	wantLasting(t, a, want)
 }
 
 // lived are images of one agent's disk at several times.
 func lived(t *testing.T, r *rand.Rand) [][]byte {
 	t.Helper()
-	c := &run{newAgent(t), newModel(1)}
+	c := newRun(t)
 	var images [][]byte
 	for range 6 {
 		for range r.Intn(60) {
@@ -290,6 +373,15 @@ func lived(t *testing.T, r *rand.Rand) [][]byte {
 		images = append(images, c.agent.Image(0))
 	}
 	return images
+}
+
+// halves are the beginning of one image and the end of another one, mostly by whole sectors.
+func halves(r *rand.Rand, one, two []byte) []byte {
+	at := r.Intn(len(one))
+	if r.Intn(4) > 0 {
+		at -= at % api.Sector
+	}
+	return slices.Concat(one[:at], two[at:])
 }
 
 func TestP4DisksOfAnyBytes(t *testing.T) {
@@ -302,9 +394,13 @@ func TestP4DisksOfAnyBytes(t *testing.T) {
 			refused++
 		}
 	}
+	other := make([]byte, api.AgentDisk)
 	for range 400 {
 		images := lived(t, r)
 		image := images[len(images)-1]
+		try(halves(r, image, images[r.Intn(len(images))]))
+		try(halves(r, image, other))
+		try(halves(r, other, image))
 		for range 4 {
 			disk := slices.Clone(image)
 			for range 1 + r.Intn(3) {
@@ -327,8 +423,18 @@ func TestP4DisksOfAnyBytes(t *testing.T) {
 			clear(disk[at : at+32<<r.Intn(2)])
 			try(disk)
 		}
+		other = slices.Clone(image)
 		r.Read(image)
 		try(image)
+	}
+	// A disk of a sink, of which a piece is left.
+	for range 30 {
+		for _, image := range livedSinks(t, r) {
+			try(image[:api.AgentDisk])
+			try(image[api.SinkDisk-api.AgentDisk:])
+			at := 64 * r.Intn(90)
+			try(image[at : at+api.AgentDisk])
+		}
 	}
 	if opened < 100 || refused < 100 {
 		t.Errorf("of the disks %d were opened and %d refused: too few", opened, refused)

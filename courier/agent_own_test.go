@@ -149,7 +149,7 @@ func TestP2AgentsAreApart(t *testing.T) {
 // Two agents live alike, but one is asked much more.
 func TestP2QuestionsChangeNothing(t *testing.T) {
 	r, s := rand.New(rand.NewSource(2)), rand.New(rand.NewSource(2))
-	one, two := &run{newAgent(t), newModel(1)}, &run{newAgent(t), newModel(1)}
+	one, two := newRun(t), newRun(t)
 	for n := range 2000 {
 		one.step(t, r)
 		two.agent.Epoch()

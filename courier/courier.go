@@ -45,7 +45,7 @@ func (a *Agent) Deliver(frame []byte) api.Errno { return a.end.Deliver(frame) }
 func (a *Agent) Image(keep uint64) []byte { return a.end.Image(keep) }
 
 // Arm has the disk fail at a write to come (P10).
-func (a *Agent) Arm(n int) {}
+func (a *Agent) Arm(n int) { a.end.Arm(n) }
 
 // Sink commits records.
 type Sink struct{ end *sink.Sink }
@@ -72,4 +72,4 @@ func (s *Sink) Log(stream int) []string { return s.end.Log(stream) }
 func (s *Sink) Image(keep uint64) []byte { return s.end.Image(keep) }
 
 // Arm has the disk fail at a write to come (P10).
-func (s *Sink) Arm(n int) {}
+func (s *Sink) Arm(n int) { s.end.Arm(n) }

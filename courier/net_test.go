@@ -1,6 +1,7 @@
 package courier_test
 
 import (
+	"fmt"
 	"math/rand"
 	"slices"
 	"strconv"
@@ -47,11 +48,15 @@ type net struct {
 	up, down [][]byte
 	taken    [api.Streams][]string
 	total    int
+	bodies   int // that were ever handed in: each is another one
+	log      [api.Streams]int
+	failing  bool           // the disks fail now and then
+	crashes  map[string]int // how often, by what was done
 }
 
 func newNet(t *testing.T, seed int64) *net {
 	t.Helper()
-	return &net{rand: rand.New(rand.NewSource(seed)), agent: newAgent(t), sink: newSink(t)}
+	return &net{rand: rand.New(rand.NewSource(seed)), agent: newAgent(t), sink: newSink(t), crashes: map[string]int{}}
 }
 
 func (n *net) check(t *testing.T) {
@@ -61,19 +66,68 @@ func (n *net) check(t *testing.T) {
 		if len(log) > len(taken) || !slices.Equal(log, taken[:len(log)]) {
 			t.Fatalf("P11: Log(%d) = %q, taken are %q", stream, log, taken)
 		}
+		if len(log) < n.log[stream] {
+			t.Fatalf("P11: Log(%d) = %q, there were %d", stream, log, n.log[stream])
+		}
+		n.log[stream] = len(log)
+		spool := n.agent.Spool(stream)
+		if len(spool) > len(taken) || !slices.Equal(spool, taken[len(taken)-len(spool):]) || len(log)+len(spool) < len(taken) {
+			t.Fatalf("P11: Log(%d) = %q, Spool(%d) = %q, taken are %q", stream, log, stream, spool, taken)
+		}
 	}
+}
+
+// crashed tells if a disk has failed, which it may only in a net whose disks fail.
+func (n *net) crashed(t *testing.T, what string, e api.Errno) bool {
+	t.Helper()
+	if e == api.ErrCrash && n.failing {
+		n.crashes[what]++
+		return true
+	}
+	return false
 }
 
 func (n *net) submit(t *testing.T) {
 	t.Helper()
-	stream, body := n.rand.Intn(3), strconv.Itoa(n.total)
-	switch e := n.agent.Submit(stream, body); e {
-	case api.OK:
+	stream, body := n.rand.Intn(3), strconv.Itoa(n.bodies)
+	n.bodies++
+	e := n.agent.Submit(stream, body)
+	taken := e == api.OK
+	if n.crashed(t, "Submit", e) {
+		n.openAgent(t)
+		taken = slices.Contains(n.agent.Spool(stream), body)
+	} else if e != api.OK && e != api.ErrFull {
+		t.Fatalf("P5: Submit = %d", e)
+	}
+	if taken {
 		n.taken[stream] = append(n.taken[stream], body)
 		n.total++
-	case api.ErrFull:
-	default:
-		t.Fatalf("P5: Submit = %d", e)
+	}
+	n.check(t)
+}
+
+// openAgent opens the agent's disk as it is, or is since it has failed.
+func (n *net) openAgent(t *testing.T) {
+	t.Helper()
+	n.agent = openAgent(t, n.agent.Image(n.rand.Uint64()), n.agent.Epoch()+1)
+}
+
+// openSink opens the sink's disk, which has failed when a frame came.
+func (n *net) openSink(t *testing.T, f api.Frame) {
+	t.Helper()
+	s, e := courier.OpenSink(n.sink.Image(n.rand.Uint64()))
+	if e != api.OK || s.Epoch() != n.sink.Epoch() && (f.Kind != api.Hello || s.Epoch() != f.Epoch) {
+		t.Fatalf("P10: behind a failure at %#v: OpenSink: %d", f, e)
+	}
+	n.sink = s
+}
+
+// arm has one of the disks fail soon, or not any more.
+func (n *net) arm() {
+	if n.rand.Intn(2) == 0 {
+		n.agent.Arm(n.rand.Intn(6) - 1)
+	} else {
+		n.sink.Arm(n.rand.Intn(10) - 1)
 	}
 }
 
@@ -114,7 +168,10 @@ func (n *net) deliverUp(t *testing.T) {
 		wantUnanswered(t, n.sink, n.spoilt(frame))
 	} else {
 		answers, e := n.sink.Deliver(frame)
-		if e != api.OK {
+		f, _ := courier.Decode(frame)
+		if n.crashed(t, fmt.Sprintf("sink, frame of kind %d", f.Kind), e) {
+			n.openSink(t, f)
+		} else if e != api.OK {
 			t.Fatalf("P8: Deliver(%v) = %d", frame, e)
 		}
 		n.down = append(n.down, answers...)
@@ -133,12 +190,23 @@ func (n *net) deliverDown(t *testing.T) {
 		agent = n.elders[n.rand.Intn(len(n.elders))]
 	}
 	if n.rand.Intn(5) == 0 {
-		if e := agent.Deliver(n.spoilt(frame)); e != api.ErrFrame {
+		if e := agent.Deliver(n.spoilt(frame)); e != api.ErrFrame && !(e == api.ErrDead && n.failing && agent != n.agent) {
 			t.Fatalf("P7: Deliver of what is no frame = %d", e)
 		}
 		return
 	}
-	deliver(t, agent, frame)
+	f, _ := courier.Decode(frame)
+	e := agent.Deliver(frame)
+	switch {
+	case !n.crashed(t, fmt.Sprintf("agent, frame of kind %d", f.Kind), e):
+		if e != api.OK && !(e == api.ErrDead && n.failing && agent != n.agent) {
+			t.Fatalf("P7: Deliver(%v) = %d", frame, e)
+		}
+	case agent == n.agent:
+		n.elders = append(n.elders, agent) // a dead one
+		n.openAgent(t)
+	}
+	n.check(t)
 }
 
 func (n *net) tick() {
@@ -156,12 +224,15 @@ func (n *net) reopen(t *testing.T) {
 		return
 	}
 	n.elders = append(n.elders, n.agent)
-	n.agent = openAgent(t, n.agent.Image(n.rand.Uint64()), n.agent.Epoch()+1)
+	n.openAgent(t)
+	n.check(t)
 }
 
 // settle lets frames through in their order, till nothing is left to be sent or so many ticks have passed.
 func (n *net) settle(t *testing.T, ticks int) {
 	t.Helper()
+	n.agent.Arm(0)
+	n.sink.Arm(0)
 	for range ticks {
 		for _, frame := range n.agent.Tick() {
 			answers, e := n.sink.Deliver(frame)
@@ -190,6 +261,9 @@ func (n *net) live(t *testing.T, records, reopenings int) {
 		}
 		if n.rand.Intn(800) < reopenings {
 			n.reopen(t)
+		}
+		if n.failing && n.rand.Intn(8) == 0 {
+			n.arm()
 		}
 	}
 }
@@ -222,10 +296,34 @@ func TestP11EndsOpenedAgain(t *testing.T) {
 	}
 }
 
+// And the disks of both ends fail at any write, and are opened again whatever is kept of them.
+func TestP11DisksThatFail(t *testing.T) {
+	crashes := map[string]int{}
+	for seed := range int64(120) {
+		n := newNet(t, seed)
+		n.failing = true
+		n.live(t, 120, int(seed)%8)
+		n.settle(t, 40)
+		n.wantAll(t)
+		for what, times := range n.crashes {
+			crashes[what] += times
+		}
+	}
+	for _, what := range []string{"Submit", "agent, frame of kind 2", "agent, frame of kind 4", "sink, frame of kind 1", "sink, frame of kind 3"} {
+		if crashes[what] < 20 {
+			t.Errorf("%s: the disk has failed %d times: too few", what, crashes[what])
+		}
+	}
+	if len(crashes) != 5 {
+		t.Errorf("P10: disks have failed where nothing is written: %v", crashes)
+	}
+}
+
 // More records than a sink commits: the first ones are there, and the rest stays kept.
 func TestP11MoreThanTheLogHas(t *testing.T) {
-	for seed := range int64(20) {
+	for seed := range int64(40) {
 		n := newNet(t, seed)
+		n.failing = seed%2 == 0
 		n.live(t, 140, int(seed)%4)
 		n.settle(t, 40)
 		committed := 0

@@ -2,6 +2,7 @@ package courier_test
 
 import (
 	"bytes"
+	"maps"
 	"math/rand"
 	"slices"
 	"strconv"
@@ -28,6 +29,8 @@ func (m *sinkModel) log(stream int) []string {
 	}
 	return log
 }
+
+func (m *sinkModel) committed() int { return m.last[0] + m.last[1] + m.last[2] }
 
 // forget makes the model one of a sink that holds nothing.
 func (m *sinkModel) forget() {
@@ -57,7 +60,7 @@ func (m *sinkModel) deliver(f api.Frame) [][]byte {
 }
 
 func (m *sinkModel) data(stream, seq int, body string) []byte {
-	full := func() bool { return m.last[0]+m.last[1]+m.last[2] >= 120 }
+	full := func() bool { return m.committed() >= 120 }
 	isNext := seq == m.last[stream]+1
 	if _, known := m.taken[place{stream, seq}]; !known && seq <= m.last[stream]+4 && !(isNext && full()) {
 		m.taken[place{stream, seq}] = body
@@ -77,10 +80,22 @@ func (m *sinkModel) data(stream, seq int, body string) []byte {
 	return ackOf(m.epoch, stream, m.last[stream], bits)
 }
 
+func (m *sinkModel) clone() *sinkModel {
+	n := *m
+	n.taken = maps.Clone(m.taken)
+	return &n
+}
+
 // sinkRun is a sink beside its model.
 type sinkRun struct {
 	sink  *courier.Sink
 	model *sinkModel
+	armed int // at most so many records can be committed, and Epochs taken, until the disk fails; 0: it doesn't
+}
+
+func newSinkRun(t *testing.T) *sinkRun {
+	t.Helper()
+	return &sinkRun{sink: newSink(t), model: &sinkModel{taken: map[place]string{}}}
 }
 
 func (c *sinkRun) check(t *testing.T) {
@@ -96,13 +111,52 @@ func (c *sinkRun) check(t *testing.T) {
 	}
 }
 
-func (c *sinkRun) deliver(t *testing.T, f api.Frame) {
+func (c *sinkRun) deliver(t *testing.T, r *rand.Rand, f api.Frame) {
 	t.Helper()
-	b := bytesOfFrame(f)
+	b, before := bytesOfFrame(f), c.model.clone()
 	got, e := c.sink.Deliver(b)
-	if want := c.model.deliver(f); e != api.OK || !slices.EqualFunc(got, want, bytes.Equal) {
+	want := c.model.deliver(f)
+	if c.armed > 0 && e == api.ErrCrash {
+		if len(got) != 0 {
+			t.Fatalf("P10: Deliver(%v) = %v beside ErrCrash", b, got)
+		}
+		c.openDead(t, r, before)
+		return
+	}
+	if e != api.OK || !slices.EqualFunc(got, want, bytes.Equal) {
 		t.Fatalf("P8: Deliver(%v) = %v, %d, want %v", b, got, e, want)
 	}
+	if c.armed > 0 {
+		c.armed -= c.model.committed() - before.committed()
+		if c.model.epoch != before.epoch {
+			c.armed--
+		}
+		if c.armed < 1 {
+			t.Fatalf("P10: Deliver(%v): the disk should have failed by now", b)
+		}
+	}
+}
+
+// openDead opens the disk of a sink that has failed: of what its model has done since, the first records are there, and the Epoch or not.
+func (c *sinkRun) openDead(t *testing.T, r *rand.Rand, before *sinkModel) {
+	t.Helper()
+	wantDeadSink(t, c.sink, before.epoch)
+	again, e := courier.OpenSink(c.sink.Image(r.Uint64()))
+	if e != api.OK {
+		t.Fatalf("P4: OpenSink: %d", e)
+	}
+	c.sink, c.armed = again, 0
+	for stream := range api.Streams {
+		n := len(again.Log(stream))
+		if n < before.last[stream] || n > c.model.last[stream] {
+			t.Fatalf("P10: %d records of stream %d, want %d to %d", n, stream, before.last[stream], c.model.last[stream])
+		}
+		c.model.last[stream] = n
+	}
+	if again.Epoch() == before.epoch {
+		c.model.epoch = before.epoch
+	}
+	c.model.forget()
 }
 
 // step does one thing with both.
@@ -116,23 +170,34 @@ func (c *sinkRun) step(t *testing.T, r *rand.Rand) {
 	near := max(0, m.last[stream]+r.Intn(9)-2)
 	switch k := r.Intn(100); {
 	case k < 30:
-		c.deliver(t, api.Frame{Kind: api.Data, Epoch: epoch, Stream: stream, Seq: m.last[stream] + 1, Body: strconv.Itoa(r.Intn(1000))})
+		c.deliver(t, r, api.Frame{Kind: api.Data, Epoch: epoch, Stream: stream, Seq: m.last[stream] + 1, Body: strconv.Itoa(r.Intn(1000))})
 	case k < 80:
-		c.deliver(t, api.Frame{Kind: api.Data, Epoch: epoch, Stream: stream, Seq: max(1, near), Body: text20[:r.Intn(21)]})
+		c.deliver(t, r, api.Frame{Kind: api.Data, Epoch: epoch, Stream: stream, Seq: max(1, near), Body: text20[:r.Intn(21)]})
 	case k < 88:
-		c.deliver(t, api.Frame{Kind: api.Hello, Epoch: epoch})
+		c.deliver(t, r, api.Frame{Kind: api.Hello, Epoch: epoch})
 	case k < 90:
-		c.deliver(t, api.Frame{Kind: api.Ack, Epoch: epoch, Stream: stream, Seq: near, Body: string([]byte{byte(r.Intn(8))})})
-		c.deliver(t, api.Frame{Kind: api.Reset, Epoch: epoch})
-		c.deliver(t, api.Frame{Kind: api.Welcome, Epoch: epoch, Body: nought + one + one})
+		c.deliver(t, r, api.Frame{Kind: api.Ack, Epoch: epoch, Stream: stream, Seq: near, Body: string([]byte{byte(r.Intn(8))})})
+		c.deliver(t, r, api.Frame{Kind: api.Reset, Epoch: epoch})
+		c.deliver(t, r, api.Frame{Kind: api.Welcome, Epoch: epoch, Body: nought + one + one})
 	case k < 94:
 		b := dataOf(epoch, stream, max(1, near), "spoilt")
 		b[r.Intn(len(b))] ^= 1 << r.Intn(8)
 		wantUnanswered(t, c.sink, b)
 	case k < 96:
-		c.sink = openSink(t, c.sink.Image(r.Uint64()), m.epoch)
-		m.forget()
+		c.reopen(t, r)
+	case k < 98:
+		n := r.Intn(8) - 1
+		c.sink.Arm(n)
+		c.armed = max(0, n)
 	}
+	c.check(t)
+}
+
+// reopen opens the sink's disk again, as if it failed now.
+func (c *sinkRun) reopen(t *testing.T, r *rand.Rand) {
+	t.Helper()
+	c.model.forget()
+	c.sink, c.armed = openSink(t, c.sink.Image(r.Uint64()), c.model.epoch), 0
 	c.check(t)
 }
 
@@ -140,11 +205,11 @@ func TestSinkIsAsItsModel(t *testing.T) {
 	full := 0
 	for seed := range int64(100) {
 		r := rand.New(rand.NewSource(seed))
-		c := &sinkRun{newSink(t), &sinkModel{taken: map[place]string{}}}
+		c := newSinkRun(t)
 		for range 100 + 4*seed {
 			c.step(t, r)
 		}
-		if n := c.model.last; n[0]+n[1]+n[2] == api.Log {
+		if c.model.committed() == api.Log {
 			full++
 		}
 	}
@@ -178,19 +243,21 @@ func checkAnySinkDisk(t *testing.T, disk []byte, seed int64) bool {
 	if total > api.Log {
 		t.Fatalf("P4: a sink with %d records", total)
 	}
-	c := &sinkRun{s, m}
+	c := &sinkRun{sink: s, model: m}
 	c.check(t)
 	r := rand.New(rand.NewSource(seed))
+	c.reopen(t, r)
 	for range 60 {
 		c.step(t, r)
 	}
+	c.reopen(t, r)
 	return true
 }
 
 // livedSinks are images of one sink's disk at several times.
 func livedSinks(t *testing.T, r *rand.Rand) [][]byte {
 	t.Helper()
-	c := &sinkRun{newSink(t), &sinkModel{taken: map[place]string{}}}
+	c := newSinkRun(t)
 	var images [][]byte
 	for range 6 {
 		for range r.Intn(60) {
@@ -211,9 +278,16 @@ func TestP4SinkDisksOfAnyBytes(t *testing.T) {
 			refused++
 		}
 	}
+	other := make([]byte, api.SinkDisk)
 	for range 100 {
 		images := livedSinks(t, r)
 		image := images[len(images)-1]
+		for range 3 {
+			try(halves(r, image, images[r.Intn(len(images))]))
+			try(halves(r, images[r.Intn(len(images))], image))
+			try(halves(r, image, other))
+			try(halves(r, other, image))
+		}
 		for range 4 {
 			disk := slices.Clone(image)
 			for range 1 + r.Intn(3) {
@@ -240,6 +314,7 @@ func TestP4SinkDisksOfAnyBytes(t *testing.T) {
 			clear(disk[at : at+32<<r.Intn(2)])
 			try(disk)
 		}
+		other = slices.Clone(image)
 		r.Read(image)
 		try(image)
 	}
@@ -249,9 +324,16 @@ func TestP4SinkDisksOfAnyBytes(t *testing.T) {
 	for fill := range 255 {
 		try(bytes.Repeat([]byte{byte(fill + 1)}, api.SinkDisk))
 	}
-	// A disk of an agent, with more behind it, is none of a sink's, or one that does.
-	for _, image := range lived(t, r) {
-		try(append(image, make([]byte, api.SinkDisk-api.AgentDisk)...))
+	// A disk of an agent, with more behind it, or before it, or again and again.
+	for range 30 {
+		for _, image := range lived(t, r) {
+			more := make([]byte, api.SinkDisk-api.AgentDisk)
+			try(slices.Concat(image, more))
+			try(slices.Concat(more, image))
+			try(slices.Repeat(image, 5)[:api.SinkDisk])
+			r.Read(more)
+			try(slices.Concat(image, more))
+		}
 	}
 }
 

@@ -133,8 +133,7 @@ func TestP2SinksAreApart(t *testing.T) {
 // Two sinks live alike, but one is asked much more.
 func TestP2SinkQuestionsChangeNothing(t *testing.T) {
 	r, q := rand.New(rand.NewSource(2)), rand.New(rand.NewSource(2))
-	one := &sinkRun{newSink(t), &sinkModel{taken: map[place]string{}}}
-	two := &sinkRun{newSink(t), &sinkModel{taken: map[place]string{}}}
+	one, two := newSinkRun(t), newSinkRun(t)
 	for n := range 600 {
 		one.step(t, r)
 		two.sink.Epoch()

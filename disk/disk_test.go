@@ -75,3 +75,73 @@ func TestMemoryIsItsOwn(t *testing.T) {
 		t.Error("an image has another one's spare room")
 	}
 }
+
+func wantWrite(t *testing.T, d *Disk, sector int, fill byte, want api.Errno) {
+	t.Helper()
+	if e := d.Write(sector, filled(fill)); e != want {
+		t.Errorf("a write of %d = %d, want %d", fill, e, want)
+	}
+	if d.IsDead() != (want != api.OK) {
+		t.Errorf("behind a write of %d: dead is %v", fill, d.IsDead())
+	}
+}
+
+func TestFailsAtTheArmedWrite(t *testing.T) {
+	for n := 1; n < 6; n++ {
+		d := New(make([]byte, api.Sector))
+		d.Arm(n)
+		for fill := 1; fill < n; fill++ {
+			wantWrite(t, d, 0, byte(fill), api.OK)
+			d.Sync()
+		}
+		wantWrite(t, d, 0, 100, api.ErrCrash)
+		wantFills(t, d.Image(math.MaxUint64), byte(n-1))
+		for range 3 {
+			wantWrite(t, d, 0, 101, api.ErrDead)
+		}
+		wantFills(t, d.Image(math.MaxUint64), byte(n-1))
+	}
+}
+
+// The write at which a disk fails is lost; those before it that weren't synced are kept by their bits, and never synced any more.
+func TestImageOfADeadDisk(t *testing.T) {
+	d := New(make([]byte, 3*api.Sector))
+	wantWrite(t, d, 0, 1, api.OK)
+	d.Sync()
+	d.Arm(3)
+	wantWrite(t, d, 1, 2, api.OK)
+	wantWrite(t, d, 0, 3, api.OK)
+	wantWrite(t, d, 2, 4, api.ErrCrash)
+	for range 2 {
+		wantFills(t, d.Image(0), 1, 0, 0)
+		wantFills(t, d.Image(1), 1, 2, 0)
+		wantFills(t, d.Image(2), 3, 0, 0)
+		wantFills(t, d.Image(4), 1, 0, 0)
+		wantFills(t, d.Image(math.MaxUint64), 3, 2, 0)
+		wantWrite(t, d, 2, 5, api.ErrDead)
+		d.Sync()
+		d.Arm(0)
+	}
+}
+
+func TestArmTakesThePlaceOfAnother(t *testing.T) {
+	d := New(make([]byte, api.Sector))
+	for _, n := range []int{0, -1, math.MinInt} {
+		d.Arm(1)
+		d.Arm(n)
+		for fill := range 10 {
+			wantWrite(t, d, 0, byte(fill), api.OK)
+		}
+	}
+	d.Arm(math.MaxInt)
+	wantWrite(t, d, 0, 1, api.OK)
+	d.Arm(2)
+	wantWrite(t, d, 0, 2, api.OK)
+	d.Arm(2)
+	wantWrite(t, d, 0, 3, api.OK)
+	wantWrite(t, d, 0, 4, api.ErrCrash)
+	d.Arm(0)
+	wantWrite(t, d, 0, 5, api.ErrDead)
+	d.Arm(5)
+	wantWrite(t, d, 0, 5, api.ErrDead)
+}

@@ -28,7 +28,7 @@ type record struct{ body string }
 // rule says what is answered to a frame of a kind; a kind without a rule is not answered.
 type rule struct {
 	kind   int
-	answer func(api.Frame) api.Frame
+	answer func(api.Frame) (api.Frame, api.Errno)
 }
 
 // epochAt is where a sink's Epoch stands among the numbers of its disk; the others are noughts.
@@ -90,11 +90,14 @@ func (s *Sink) Epoch() int { return s.epoch }
 
 // Log tells a stream's records that are committed (P9).
 func (s *Sink) Log(stream int) []string {
-	if !frame.IsStream(stream) {
+	if !frame.IsStream(stream) || s.store.IsDead() {
 		return nil
 	}
 	return slices.Clone(s.streams[stream].log)
 }
+
+// Arm has the disk fail at a write to come, or not any more (P10).
+func (s *Sink) Arm(n int) { s.store.Arm(n) }
 
 // Image tells what the disk would hold if it failed now (P10).
 func (s *Sink) Image(keep uint64) []byte { return s.store.Image(keep) }

@@ -33,7 +33,7 @@ func Open(bytes []byte) (*Store, Contents, api.Errno) {
 	}
 	// No stamp on the disk is of a later opening than the newest head's, so this number is above them all.
 	s := &Store{disk: disk.New(bytes), last: stamp{opening: newest.stamp.opening + 1}, head: at}
-	s.WriteNumbers(newest.numbers)
+	s.WriteNumbers(newest.numbers) // the disk can't fail yet: nobody has armed it
 	return s, Contents{newest.numbers, records}, api.OK
 }
 
@@ -73,23 +73,31 @@ func sectorAt(bytes []byte, sector int) disk.Sector {
 // Opening tells how many times the disk was opened.
 func (s *Store) Opening() int { return int(s.last.opening) }
 
-// WriteNumbers makes numbers lasting in place of those that counted, all of them or none.
-func (s *Store) WriteNumbers(n Numbers) {
+// WriteNumbers makes numbers lasting in place of those that counted, all of them or, if the disk fails, none.
+func (s *Store) WriteNumbers(n Numbers) api.Errno {
 	s.head = heads - 1 - s.head
 	s.last.count++
-	s.write(s.head, sealHead(head{s.last, n}))
+	return s.write(s.head, sealHead(head{s.last, n}))
 }
 
-// WriteRecord makes a record lasting at a place, in place of what stood there.
-func (s *Store) WriteRecord(place int, r Record) {
+// WriteRecord makes a record lasting at a place, in place of what stood there, or, if the disk fails, leaves that there.
+func (s *Store) WriteRecord(place int, r Record) api.Errno {
 	s.last.count++
-	s.write(heads+place, sealRecord(s.last, r))
+	return s.write(heads+place, sealRecord(s.last, r))
 }
 
-func (s *Store) write(sector int, bytes disk.Sector) {
-	s.disk.Write(sector, bytes)
+// write syncs behind each write, so that whatever fails later, one write at most is lost.
+func (s *Store) write(sector int, bytes disk.Sector) api.Errno {
+	errno := s.disk.Write(sector, bytes)
 	s.disk.Sync()
+	return errno
 }
 
-// Image tells what the disk would hold if it failed now.
+// Arm has the disk fail at the n-th write from now on, or, with n of 0 or below, not at all.
+func (s *Store) Arm(n int) { s.disk.Arm(n) }
+
+// IsDead tells if the disk has failed.
+func (s *Store) IsDead() bool { return s.disk.IsDead() }
+
+// Image tells what the disk would hold if it failed now, or what it holds since it has failed.
 func (s *Store) Image(keep uint64) []byte { return s.disk.Image(keep) }

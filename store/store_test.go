@@ -238,3 +238,51 @@ func TestImagesAreNew(t *testing.T) {
 	c.Records[0] = Record{1, 1, "a"}
 	wantContents(t, s.Image(0), 2, Numbers{}, make([]Record, 4)...)
 }
+
+// A write at which the disk fails leaves all as it was, and no later one is made.
+func TestAWriteThatFails(t *testing.T) {
+	a, b := Record{1, 1, "a"}, Record{2, 5, "b"}
+	writes := map[string]func(*Store) api.Errno{
+		"numbers":                   func(s *Store) api.Errno { return s.WriteNumbers(Numbers{7, 8, 9}) },
+		"a record":                  func(s *Store) api.Errno { return s.WriteRecord(1, b) },
+		"a record over another one": func(s *Store) api.Errno { return s.WriteRecord(2, b) },
+	}
+	for name, write := range writes {
+		s, _ := open(t, noughts())
+		if s.WriteRecord(2, a) != api.OK || s.WriteNumbers(Numbers{1, 2, 3}) != api.OK || s.IsDead() {
+			t.Fatal("a disk fails that isn't armed")
+		}
+		before := s.Image(0)
+		s.Arm(1)
+		if e := write(s); e != api.ErrCrash || !s.IsDead() {
+			t.Errorf("writing %s = %d, want ErrCrash", name, e)
+		}
+		for again, w := range writes {
+			if e := w(s); e != api.ErrDead {
+				t.Errorf("writing %s to a dead disk = %d, want ErrDead", again, e)
+			}
+		}
+		if !bytes.Equal(s.Image(0), before) || !bytes.Equal(s.Image(math.MaxUint64), before) {
+			t.Errorf("a write of %s that failed has come to the disk", name)
+		}
+		wantContents(t, s.Image(0), 2, Numbers{1, 2, 3}, Record{}, Record{}, a, Record{})
+	}
+}
+
+// Each write is lasting when it is made, so nothing hangs on what is kept.
+func TestTheArmedWriteIsCounted(t *testing.T) {
+	s, _ := open(t, noughts())
+	s.Arm(4)
+	for n := 1; n < 4; n++ {
+		if e := s.WriteRecord(n, Record{0, n, "r"}); e != api.OK {
+			t.Fatalf("write %d = %d", n, e)
+		}
+		if !bytes.Equal(s.Image(0), s.Image(math.MaxUint64)) {
+			t.Errorf("write %d isn't lasting", n)
+		}
+	}
+	if e := s.WriteNumbers(Numbers{3}); e != api.ErrCrash {
+		t.Errorf("the fourth write = %d, want ErrCrash", e)
+	}
+	wantContents(t, s.Image(math.MaxUint64), 2, Numbers{}, Record{}, Record{0, 1, "r"}, Record{0, 2, "r"}, Record{0, 3, "r"})
+}
